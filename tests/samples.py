@@ -1,0 +1,84 @@
+"""Webs and things of every kind, for all tests."""
+
+import collections
+import fractions
+import itertools
+import random
+
+MOST_GAIN = 10 ** 12
+
+SIXTY = 10 ** 60 - 1
+
+
+class SameAsAll:
+    """A thing that says it equals whatever it is compared with."""
+
+    def __eq__(self, other):
+        return True
+
+    def __hash__(self):
+        return 0
+
+
+class Unruly:
+    """A thing that can be neither compared, measured, walked, hashed nor asked for its truth."""
+
+    __hash__ = None
+
+    def fail(self, *rest):
+        raise RuntimeError("asked of an unruly thing")
+
+    __eq__ = __ne__ = __lt__ = __le__ = __gt__ = __ge__ = fail
+    __len__ = __iter__ = __getitem__ = __contains__ = __bool__ = __index__ = __int__ = fail
+    __repr__ = __str__ = fail
+
+
+def some_def():
+    """A def that is handed in as a thing."""
+
+
+def odd_things():
+    """Things of every kind that are no ratio, number of people, web, party, person, pairing or sharing of any web."""
+    return [
+        None, True, False, Ellipsis, NotImplemented, -1, 9, SIXTY, -SIXTY, 10 ** 200,
+        "", "0", "0-1", "(0,)", b"", b"\x00", bytearray(b"\x01"),
+        [], [0], [0, 1], [[0], [1]], [(0,), (1,)], (), ((),), ([],), ((), ()), ([], []), ({}, {}),
+        {}, {0: 1}, {(0,): 0}, set(), {0}, {(0,)}, frozenset(), frozenset([0, 1]),
+        range(0), range(2), object(), object, int, tuple, some_def, len, ValueError("no"), ValueError,
+        fractions.Fraction(1, 2), fractions.Fraction(0), complex(0, 1), memoryview(b"ab"), iter(()),
+        SameAsAll(), Unruly(), collections.deque([0]), random, slice(0, 1),
+        (None,), (None, None), (True,), (False,), (False, True), (True, True), (0, True), (False, 1),
+        ("0",), ("a", "b"), "ab", (b"a", b"b"), (fractions.Fraction(0),), (fractions.Fraction(0), fractions.Fraction(1)),
+        (SameAsAll(),), (SameAsAll(), SameAsAll()), (Unruly(),), (Unruly(), Unruly()), (Unruly(), Unruly(), Unruly()),
+        (-1,), (8,), (0, 0), (1, 0), (0, 8), (-1, 0), (0, 0, 1), (0, 1, 2, 3), ((0,), 1), (0, (1,)),
+    ]
+
+
+def all_ties(people, gain=1):
+    """A list of the ties of all twos, with gains rising from that one on."""
+    twos = itertools.combinations(range(people), 2)
+    return [(one, other, gain + at) for at, (one, other) in enumerate(twos)]
+
+
+def some_webs():
+    """Webs of one to eight people, without ties, with all, and with some of them."""
+    chance = random.Random(5)
+    told = []
+    for people in range(1, 9):
+        full = all_ties(people)
+        told.append((people, ()))
+        told.append((people, tuple(full)))
+        told.append((people, tuple((one, other, MOST_GAIN) for one, other, gain in full)))
+        for time in range(4):
+            kept = [(one, other) for one, other, gain in full if chance.randrange(3)]
+            told.append((people, tuple((one, other, chance.randint(1, 9)) for one, other in kept)))
+    return told
+
+
+def lists_within(thing):
+    """All lists in what was told, the thing itself among them."""
+    told = [thing] if isinstance(thing, list) else []
+    if isinstance(thing, (list, tuple)):
+        for one in thing:
+            told.extend(lists_within(one))
+    return told

@@ -1,0 +1,1 @@
+"""Twainhoard: what two gain together, shared so that nobody has better."""

@@ -1,0 +1,16 @@
+"""What a thing of any kind is: whole numbers, tuples of a length, rising rows."""
+
+
+def is_whole(thing):
+    """Whether it is a whole number; truths are ints to Python, but none here."""
+    return isinstance(thing, int) and not isinstance(thing, bool)
+
+
+def is_row(thing, count):
+    """Whether it is a tuple of just so many things."""
+    return isinstance(thing, tuple) and len(thing) == count
+
+
+def is_rising(row):
+    """Whether each thing of the tuple or list is less than the next one."""
+    return all([one < other for one, other in zip(row, row[1:])])
