@@ -5,6 +5,8 @@ import fractions
 import itertools
 import random
 
+from twainhoard.pairings import pairings_of
+
 MOST_GAIN = 10 ** 12
 
 SIXTY = 10 ** 60 - 1
@@ -48,7 +50,8 @@ def odd_things():
         fractions.Fraction(1, 2), fractions.Fraction(0), complex(0, 1), memoryview(b"ab"), iter(()),
         SameAsAll(), Unruly(), collections.deque([0]), random, slice(0, 1),
         (None,), (None, None), (True,), (False,), (False, True), (True, True), (0, True), (False, 1),
-        ("0",), ("a", "b"), "ab", (b"a", b"b"), (fractions.Fraction(0),), (fractions.Fraction(0), fractions.Fraction(1)),
+        ("0",), ("a", "b"), "ab", (b"a", b"b"), (fractions.Fraction(0),),
+        (fractions.Fraction(0), fractions.Fraction(1)),
         (SameAsAll(),), (SameAsAll(), SameAsAll()), (Unruly(),), (Unruly(), Unruly()), (Unruly(), Unruly(), Unruly()),
         (-1,), (8,), (0, 0), (1, 0), (0, 8), (-1, 0), (0, 0, 1), (0, 1, 2, 3), ((0,), 1), (0, (1,)),
     ]
@@ -75,10 +78,39 @@ def some_webs():
     return told
 
 
-def lists_within(thing):
-    """All lists in what was told, the thing itself among them."""
-    told = [thing] if isinstance(thing, list) else []
-    if isinstance(thing, (list, tuple)):
-        for one in thing:
-            told.extend(lists_within(one))
+def as_ratio(number):
+    """The ratio of a Fraction or a whole number."""
+    number = fractions.Fraction(number)
+    return (number.numerator, number.denominator)
+
+
+def as_fraction(one):
+    """The Fraction of a ratio."""
+    return fractions.Fraction(*one)
+
+
+def sharing_of(web, pairing, parting):
+    """The sharing in which the first one of each pair has that part of the gain."""
+    gains = {tie[:2]: tie[2] for tie in web[1]}
+    shares = {}
+    for party in pairing:
+        gain = gains.get(party, 0)
+        shares[party[-1]] = gain - gain * parting
+        shares[party[0]] = gain * parting
+    return (pairing, tuple(as_ratio(shares[person]) for person in range(web[0])))
+
+
+def some_sharings(web, pairings):
+    """Sharings of the web with these pairings, parted in half, all to one, and by ratios of sixty figures."""
+    partings = (0, 1, fractions.Fraction(1, 2), fractions.Fraction(2, 3), fractions.Fraction(SIXTY // 7, SIXTY - 1))
+    return [sharing_of(web, pairing, parting) for pairing in pairings for parting in partings]
+
+
+def webs_and_sharings():
+    """Pairs of a web and a sharing of it: some of every web, of pairings from the first to the last ones."""
+    told = []
+    for web in some_webs():
+        pairings = pairings_of(web)
+        for sharing in some_sharings(web, pairings[::max(1, len(pairings) // 7)]):
+            told.append((web, sharing))
     return told

@@ -112,7 +112,8 @@ class IsRatioTest(unittest.TestCase):
             (True, 1), (False, 1), (1, True), (0, True), (True, True), ("1", 2), (1, "2"), ("1", "2"), "12", "1/2",
             [1, 2], [[1, 2]], ((1, 2),), (1,), (), (1, 2, 3), (1, 2, 1), (None, 1), (1, None), ((1,), 2), (1, (2,)),
             1, 0, {1: 2}, {1, 2}, b"12", (b"1", 2), range(1, 3), fractions.Fraction(1, 2), (fractions.Fraction(1), 2),
-            (1, fractions.Fraction(2)), (1, complex(2, 0)), (SameAsAll(), 1), (1, SameAsAll()), (Unruly(), 1), (1, Unruly()),
+            (1, fractions.Fraction(2)), (1, complex(2, 0)), (SameAsAll(), 1), (1, SameAsAll()),
+            (Unruly(), 1), (1, Unruly()),
         ]
         for thing in wrong:
             self.assertIs(is_ratio(thing), False)

@@ -16,7 +16,7 @@ def common_divisor(one, other):
 def ratio(top, bottom):
     """The ratio of two whole numbers; NoRatio where the bottom is 0."""
     if bottom == 0:
-        raise NoRatio("a ratio's bottom isn't 0")
+        raise NoRatio("nothing is parted by 0")
     if bottom < 0:
         top, bottom = -top, -bottom
     common = common_divisor(abs(top), bottom)
@@ -40,8 +40,7 @@ def times(one, other):
 
 def over(one, other):
     """The one ratio parted by the other; NoRatio where that is nought."""
-    if other[0] == 0:
-        raise NoRatio("nothing is parted by nought")
+    # Nought's top comes to stand at the bottom, which ratio refuses.
     return ratio(one[0] * other[1], one[1] * other[0])
 
 
