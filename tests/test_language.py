@@ -9,14 +9,14 @@ PACKAGE = pathlib.Path(__file__).resolve().parent.parent / "twainhoard"
 
 OWN_NAMES = set(
     "len range enumerate zip min max sum abs sorted reversed int str bool bytes list tuple dict set isinstance ord "
-    "repr any all divmod Exception ValueError TypeError KeyError IndexError LookupError ZeroDivisionError ArithmeticError "
-    "OverflowError RuntimeError NotImplementedError".split()
+    "repr any all divmod Exception ValueError TypeError KeyError IndexError LookupError ZeroDivisionError "
+    "ArithmeticError OverflowError RuntimeError NotImplementedError".split()
 )
 
 METHODS = set(
     "append clear copy count endswith extend find get index insert isalnum isalpha isdigit islower isspace isupper "
-    "items join keys ljust lower lstrip partition pop remove replace reverse rfind rjust rpartition rsplit rstrip setdefault "
-    "split splitlines startswith strip update upper values zfill bit_length add discard sort __init__".split()
+    "items join keys ljust lower lstrip partition pop remove replace reverse rfind rjust rpartition rsplit rstrip "
+    "setdefault split splitlines startswith strip update upper values zfill bit_length add discard sort __init__".split()
 )
 
 WORDS = set(
