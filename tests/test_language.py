@@ -16,7 +16,8 @@ OWN_NAMES = set(
 METHODS = set(
     "append clear copy count endswith extend find get index insert isalnum isalpha isdigit islower isspace isupper "
     "items join keys ljust lower lstrip partition pop remove replace reverse rfind rjust rpartition rsplit rstrip "
-    "setdefault split splitlines startswith strip update upper values zfill bit_length add discard sort __init__".split()
+    "setdefault split splitlines startswith strip update upper values zfill bit_length add discard sort "
+    "__init__".split()
 )
 
 WORDS = set(
