@@ -114,3 +114,74 @@ def webs_and_sharings():
         for sharing in some_sharings(web, pairings[::max(1, len(pairings) // 7)]):
             told.append((web, sharing))
     return told
+
+
+def ring(people, gains, first=0):
+    """The ties of a ring of so many people, from that one on, with these gains, again from their first on."""
+    twos = [(first + at, first + (at + 1) % people) for at in range(people)]
+    return [(min(two), max(two), gains[at % len(gains)]) for at, two in enumerate(twos)]
+
+
+def web_of(people, ties):
+    """The web of so many people and ties in whatever order."""
+    return (people, tuple(sorted(ties)))
+
+
+def named_webs():
+    """Webs that are told apart by their shape: rings, two sides, parts, gains alike and far apart."""
+    sides = [(one, other, 3 * one + other) for one in range(4) for other in range(4, 8)]
+    rows = ((1,), (2, 3), (7, 1, 4), (MOST_GAIN,))
+    told = [web_of(many, ring(many, gains)) for many in range(3, 9) for gains in rows]
+    told += [web_of(8, ring(many, (5,))) for many in (3, 5, 7)]
+    told += [
+        (1, ()), (2, ()), (2, ((0, 1, 1),)), (2, ((0, 1, MOST_GAIN),)), (8, ()), web_of(8, sides),
+        web_of(8, [(one, other, MOST_GAIN) for one, other, gain in sides]),
+        web_of(6, ring(3, (2,)) + ring(3, (2, 3), 3)), web_of(6, ring(3, (4,)) + ring(3, (4,), 3) + [(2, 3, 1)]),
+        web_of(6, ring(3, (4,)) + ring(3, (4,), 3) + [(2, 3, 5)]), web_of(8, ring(5, (3,)) + ring(3, (1,), 5)),
+        web_of(8, ring(5, (3,)) + ring(3, (6,), 5) + [(0, 5, 3)]), web_of(8, ring(3, (8,)) + [(3, 4, 2), (5, 6, 9)]),
+        web_of(7, ring(3, (9,)) + ring(3, (9,), 3) + [(2, 6, 1), (5, 6, 1)]), (8, tuple(all_ties(8, MOST_GAIN - 27))),
+        web_of(7, [(one, other, 6 if other < 3 else 4) for one, other, gain in all_ties(7)]),
+        web_of(7, [(one, other, 6 if other < 5 else 5) for one, other, gain in all_ties(7)]),
+        web_of(7, [(one, other, 3 if other < 3 else 2 if other < 5 else 1) for one, other, gain in all_ties(7)]),
+        web_of(8, [(one, 7, 10 ** (one + 1)) for one in range(7)]),
+    ]
+    return told
+
+
+def small_webs(people, most):
+    """All webs of so many people with gains up to that one."""
+    twos = list(itertools.combinations(range(people), 2))
+    for gains in itertools.product(range(most + 1), repeat=len(twos)):
+        yield (people, tuple((one, other, gain) for (one, other), gain in zip(twos, gains) if gain))
+
+
+def mixed_webs(seed, many):
+    """So many webs of one to eight people with some ties, gains near to one another or far apart."""
+    chance = random.Random(seed)
+    for time in range(many):
+        people, likely, most = chance.randint(1, 8), chance.choice((3, 6, 10)), chance.choice((2, 6, 30, MOST_GAIN))
+        least = chance.choice((1, max(1, most * 3 // 4)))
+        twos = [two for two in itertools.combinations(range(people), 2) if chance.randrange(10) < likely]
+        yield (people, tuple((one, other, chance.randint(least, most)) for one, other in twos))
+
+
+def half_covers(web):
+    """All covers whose shares are halves up to the greatest gain, as tuples of Fractions."""
+    most = max([0] + [gain for one, other, gain in web[1]])
+    halves = [fractions.Fraction(top, 2) for top in range(2 * most + 1)]
+    for shares in itertools.product(halves, repeat=web[0]):
+        if all(shares[one] + shares[other] >= gain for one, other, gain in web[1]):
+            yield shares
+
+
+def most_worth(web):
+    """The worth of the best pairings, found by trying them all."""
+    gains = {tie[:2]: tie[2] for tie in web[1]}
+    return max(sum(gains.get(party, 0) for party in pairing) for pairing in pairings_of(web))
+
+
+def is_plain(told):
+    """Whether what is told is of tuples, texts and whole numbers through and through."""
+    if isinstance(told, tuple):
+        return all(is_plain(thing) for thing in told)
+    return isinstance(told, (int, str)) and not isinstance(told, bool)

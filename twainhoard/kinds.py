@@ -1,4 +1,4 @@
-"""What a thing of any kind is: whole numbers, tuples of a length, rising rows."""
+"""What a thing of any kind is: whole numbers, tuples of a length, rising and sorted rows."""
 
 
 def is_whole(thing):
@@ -14,3 +14,13 @@ def is_row(thing, count):
 def is_rising(row):
     """Whether each thing of the tuple or list is less than the next one."""
     return all([one < other for one, other in zip(row, row[1:])])
+
+
+def is_sorted(row):
+    """Whether no thing of the tuple or list is greater than the next one."""
+    return not any([other < one for one, other in zip(row, row[1:])])
+
+
+def is_told(thing, word, count):
+    """Whether it is a tuple of just so many things, that word the first one."""
+    return is_row(thing, count) and isinstance(thing[0], str) and thing[0] == word

@@ -1,15 +1,17 @@
 """Pairings: rising tuples of parties that hold each person just once."""
 
 from twainhoard.kinds import is_rising
-from twainhoard.webs import gains, is_party, parties
+from twainhoard.webs import gains, is_parties, parties
 
 
 def is_pairing(web, thing):
     """Whether a thing of any kind is a pairing of the web."""
-    if not isinstance(thing, tuple) or not all([is_party(web, party) for party in thing]):
-        return False
-    held = [person for party in thing for person in party]
-    return is_rising(thing) and sorted(held) == list(range(web[0]))
+    return is_parties(web, thing) and is_rising(thing) and held(thing) == list(range(web[0]))
+
+
+def held(some):
+    """The sorted list of the people of parties, each person as often as parties hold it."""
+    return sorted([person for party in some for person in party])
 
 
 def worth(web, some):

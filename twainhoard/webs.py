@@ -1,7 +1,7 @@
 """Webs: tuples (people, ties); a tie is a triple of two people and their gain."""
 
 from twainhoard.errors import NoParty, NoPerson, NoWeb, Twice
-from twainhoard.kinds import is_rising, is_row, is_whole
+from twainhoard.kinds import is_rising, is_row, is_sorted, is_whole
 
 MOST_PEOPLE = 8
 MOST_GAIN = 10 ** 12
@@ -61,6 +61,16 @@ def is_party(web, thing):
     """Whether a thing of any kind is a party of the web."""
     # (True,) is the same as (1,) to Python, so what the tuple holds is asked first.
     return isinstance(thing, tuple) and all([is_whole(one) for one in thing]) and thing in parties(web)
+
+
+def is_parties(web, thing):
+    """Whether a thing of any kind is a tuple of parties of the web, in whatever order and however often."""
+    return isinstance(thing, tuple) and all([is_party(web, party) for party in thing])
+
+
+def is_sorted_parties(web, thing):
+    """Whether a thing of any kind is a sorted tuple of parties of the web."""
+    return is_parties(web, thing) and is_sorted(thing)
 
 
 def gains(web):
