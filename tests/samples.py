@@ -2,6 +2,7 @@
 
 import collections
 import fractions
+import functools
 import itertools
 import random
 
@@ -174,6 +175,7 @@ def half_covers(web):
             yield shares
 
 
+@functools.lru_cache(maxsize=None)
 def most_worth(web):
     """The worth of the best pairings, found by trying them all."""
     gains = {tie[:2]: tie[2] for tie in web[1]}
