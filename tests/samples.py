@@ -6,6 +6,7 @@ import functools
 import itertools
 import random
 
+from twainhoard.firm import firm
 from twainhoard.pairings import pairings_of
 
 MOST_GAIN = 10 ** 12
@@ -164,6 +165,11 @@ def mixed_webs(seed, many):
         least = chance.choice((1, max(1, most * 3 // 4)))
         twos = [two for two in itertools.combinations(range(people), 2) if chance.randrange(10) < likely]
         yield (people, tuple((one, other, chance.randint(least, most)) for one, other in twos))
+
+
+def firm_webs(webs):
+    """Those of the webs that have a firm sharing."""
+    return [web for web in webs if firm(web)[0] == "firm"]
 
 
 def half_covers(web):

@@ -6,8 +6,8 @@ import random
 import unittest
 
 from tests.samples import (
-    MOST_GAIN, SIXTY, Unruly, all_ties, as_fraction, as_ratio, half_covers, is_plain, mixed_webs, most_worth,
-    named_webs, odd_things, ring, small_webs, some_webs, web_of,
+    MOST_GAIN, SIXTY, Unruly, all_ties, as_fraction, as_ratio, firm_webs, half_covers, is_plain, mixed_webs,
+    most_worth, named_webs, odd_things, ring, small_webs, some_webs, web_of,
 )
 from tests.test_swaps import counts
 from twainhoard.best import all_best
@@ -27,10 +27,6 @@ ALL_FOUR = (
     least_slack, greatest_slack, lambda web, party: least_right(web, party, LEAST),
     lambda web, party: greatest_right(web, party, GREATEST),
 )
-
-
-def firm_webs(webs):
-    return [web for web in webs if firm(web)[0] == "firm"]
 
 
 def binds(web, party, bound, many, few):

@@ -57,6 +57,20 @@ def total(some):
     return told
 
 
+def common_bottom(some):
+    """The least number that each bottom of a list of ratios divides."""
+    told = 1
+    for top, bottom in some:
+        told = told * bottom // common_divisor(told, bottom)
+    return told
+
+
+def least_first(some):
+    """The sorted list of the ratios of a list, the least first."""
+    common = common_bottom(some)
+    return sorted(some, key=lambda one: one[0] * (common // one[1]))
+
+
 def is_ratio(thing):
     """Whether a thing of any kind is a ratio."""
     if not is_row(thing, 2) or not is_whole(thing[0]) or not is_whole(thing[1]):
