@@ -98,6 +98,7 @@ class LanguageTest(unittest.TestCase):
                 del left[name]
 
     def test_names(self):
+        methods = METHODS | {name for path in sources() for name in own_methods(path)}
         pythons = set(dir(__builtins__) if not isinstance(__builtins__, dict) else __builtins__)
         for name, text, tree in self.each():
             given = top_names(PACKAGE / name) | imported(tree)
@@ -112,7 +113,7 @@ class LanguageTest(unittest.TestCase):
                     self.assertNotIn(node.arg, pythons | imported(tree), (name, node.lineno))
                     self.assertFalse(node.arg.startswith("_"), (name, node.arg))
                 if isinstance(node, ast.Call) and isinstance(node.func, ast.Attribute):
-                    self.assertIn(node.func.attr, METHODS, (name, node.lineno))
+                    self.assertIn(node.func.attr, methods, (name, node.lineno))
 
 
 def top_names(path):
@@ -123,6 +124,11 @@ def top_names(path):
         if isinstance(node, ast.Assign):
             told.update(target.id for target in node.targets)
     return told
+
+
+def own_methods(path):
+    classes = [node for node in ast.parse(path.read_text(encoding="utf-8")).body if isinstance(node, ast.ClassDef)]
+    return {node.name for each in classes for node in each.body if isinstance(node, ast.FunctionDef)}
 
 
 def imported(tree):
